@@ -95,13 +95,3 @@ func bare(t *testing.T) *ops.Table {
 	}
 	return o
 }
-
-// dice throws numbers by a rule of its own, the same ones each time.
-type dice struct{ state uint64 }
-
-func (d *dice) next(n int) int {
-	d.state = d.state*6364136223846793005 + 1442695040888963407
-	return int(d.state>>33) % n
-}
-
-func throw[T any](d *dice, l []T) T { return l[d.next(len(l))] }

@@ -7,6 +7,7 @@ import (
 
 	"hornbeam/api"
 	"hornbeam/ops"
+	"hornbeam/sample"
 )
 
 // model is a list of operators, in no order, with the chapter's rules as they
@@ -106,7 +107,7 @@ func TestRowsOfAdds(t *testing.T) {
 // P4.5: long rows of Adds of any numbers, from what is there from the
 // beginning on, and of a copy from somewhere in between on.
 func TestLongRowsOfAdds(t *testing.T) {
-	d := &dice{4}
+	d := sample.Dice(4)
 	names := []string{"a", "b", "", "is", "-", ":-", "|", ",", "[]", "{}", "\xff"}
 	priorities := append([]int{0, 0, 0, 1, 200, 999, 1000, 1001, 1200}, noPriorities()...)
 	for range 40 {
@@ -116,11 +117,11 @@ func TestLongRowsOfAdds(t *testing.T) {
 			if t.Failed() {
 				return
 			}
-			kind := throw(d, kinds())
-			if d.next(10) == 0 {
-				kind = throw(d, noKinds())
+			kind := sample.Throw(&d, kinds()...)
+			if d.Next(10) == 0 {
+				kind = sample.Throw(&d, noKinds()...)
 			}
-			m = m.step(t, o, op(throw(d, priorities), kind, throw(d, names)), names)
+			m = m.step(t, o, op(sample.Throw(&d, priorities...), kind, sample.Throw(&d, names...)), names)
 			if i%30 == 29 {
 				checkAll(t, "a copy", all(copied), was.inOrder())
 				copied, was = o.Copy(), m
@@ -132,12 +133,12 @@ func TestLongRowsOfAdds(t *testing.T) {
 
 // R5: what is told hangs on no order in which it was told.
 func TestOrderOfAddsIsNotTold(t *testing.T) {
-	d := &dice{5}
+	d := sample.Dice(5)
 	want := first()
 	for range 50 {
 		l := slices.Clone(first())
 		for i := range l {
-			j := d.next(i + 1)
+			j := d.Next(i + 1)
 			l[i], l[j] = l[j], l[i]
 		}
 		o := bare(t)

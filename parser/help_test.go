@@ -3,34 +3,22 @@ package parser_test
 import (
 	"errors"
 	"fmt"
-	"math"
 	"slices"
-	"strconv"
-	"strings"
 	"testing"
 
 	"hornbeam/api"
 	"hornbeam/ops"
 	"hornbeam/parser"
+	"hornbeam/sample"
 	"hornbeam/tree"
 )
 
-func atom(name string) api.Term { return tree.Atom(name) }
-
-func num(digits string) api.Term { return tree.Digits(digits) }
-
-func float(f float64) api.Term { return tree.Float(math.Float64bits(f)) }
-
-func v(n int) api.Term { return tree.Var(n) }
-
-func f(name string, args ...api.Term) api.Term { return tree.Of(name, args...) }
-
-func list(l ...api.Term) api.Term { return tree.List(l, atom("[]")) }
-
-// equal looks at every field.
-func equal(a, b api.Term) bool {
-	return a.Kind == b.Kind && a.Name == b.Name && a.Num == b.Num && a.Bits == b.Bits && a.Var == b.Var && slices.EqualFunc(a.Args, b.Args, equal)
-}
+// Short names for what makes terms and looks at them.
+var (
+	atom, num, v, f    = tree.Atom, tree.Digits, tree.Var, tree.Of
+	float, list        = sample.Float, sample.List
+	equal, show, short = sample.Equal, sample.Show, sample.Short
+)
 
 // told is what Read tells: an answer, and the word of the ball, if there is one.
 type told struct {
@@ -49,34 +37,6 @@ func (w told) String() string {
 		names += fmt.Sprintf(" %s=_%d", n.Name, n.Var)
 	}
 	return short(fmt.Sprintf("%s%s (names%s, singles %v, next %d, end %v)", w.word, show(w.read.Term), names, w.read.Singles, w.read.Next, w.read.End))
-}
-
-func short(text string) string {
-	if len(text) > 300 {
-		return fmt.Sprintf("%s.. (%d bytes)", text[:300], len(text))
-	}
-	return text
-}
-
-// show is a term without operators.
-func show(t api.Term) string {
-	switch t.Kind {
-	case 0:
-		return ""
-	case api.Var:
-		return "_" + strconv.Itoa(t.Var)
-	case api.Atom:
-		return strconv.Quote(t.Name)
-	case api.Integer:
-		return t.Num
-	case api.Float:
-		return fmt.Sprintf("%gf", math.Float64frombits(t.Bits))
-	}
-	var parts []string
-	for _, part := range t.Args {
-		parts = append(parts, show(part))
-	}
-	return strconv.Quote(t.Name) + "(" + strings.Join(parts, ",") + ")"
 }
 
 // wordOf is the word of a ball that is a syntax error, and nothing else.
@@ -155,13 +115,3 @@ func rich(t *testing.T) *ops.Table {
 	add(t, o, 650, "xfy", "")
 	return o
 }
-
-// dice throws numbers by a rule of its own, the same ones each time.
-type dice struct{ state uint64 }
-
-func (d *dice) next(n int) int {
-	d.state = d.state*6364136223846793005 + 1442695040888963407
-	return int(d.state>>33) % n
-}
-
-func throw[T any](d *dice, l []T) T { return l[d.next(len(l))] }

@@ -8,17 +8,18 @@ import (
 	"hornbeam/api"
 	"hornbeam/lexer"
 	"hornbeam/ops"
+	"hornbeam/sample"
 	"hornbeam/term"
 )
 
 // P5.4: what is read is a term that may be, and no number of a variable is left
 // out; the names are of its variables.
 func TestWhatIsReadMayBe(t *testing.T) {
-	d := &dice{31}
+	d := sample.Dice(31)
 	o := rich(t)
 	for range 30000 {
-		text := d.grown(1+d.next(5)) + " ."
-		got := readAt(text, 0, o, d.next(4))
+		text := grown(&d, 1+d.Next(5)) + " ."
+		got := readAt(text, 0, o, d.Next(4))
 		if got.word != "" {
 			if !equal(got.read.Term, api.Term{}) || len(got.read.Names)+len(got.read.Singles) > 0 || got.read.End {
 				t.Fatalf("Read(%q): %v beside what is wrong", text, got)
@@ -44,11 +45,11 @@ func TestWhatIsReadMayBe(t *testing.T) {
 
 // P5.4: layout between tokens changes nothing, but ahead of ( and a number.
 func TestLayout(t *testing.T) {
-	d := &dice{37}
+	d := sample.Dice(37)
 	o := rich(t)
 	blanks := []string{" ", "\n", "\t\v\f\r", " /* a. ' */ ", " % b. \"\n", " /**/"}
 	for range 30000 {
-		text := d.grown(1+d.next(5)) + " ."
+		text := grown(&d, 1+d.Next(5)) + " ."
 		loose := ""
 		for at := 0; ; {
 			k, e := lexer.Next(text, at)
@@ -60,7 +61,7 @@ func TestLayout(t *testing.T) {
 			}
 			touches := !k.Layout && (k.Text == "(" || k.Kind == api.TInt || k.Kind == api.TFloat)
 			if !touches {
-				loose += throw(d, blanks)
+				loose += sample.Throw(&d, blanks...)
 			}
 			loose += text[k.At:k.End]
 			at = k.End
@@ -85,16 +86,16 @@ func TestLayout(t *testing.T) {
 
 // P5.4: operators whose names do not stand there change nothing.
 func TestOtherOperators(t *testing.T) {
-	d := &dice{41}
+	d := sample.Dice(41)
 	kinds := strings.Fields("fx fy xfx xfy yfx xf yf")
 	for range 10000 {
-		text := d.grown(1+d.next(5)) + " ."
+		text := grown(&d, 1+d.Next(5)) + " ."
 		o := rich(t)
 		want := read(text, o)
 		for range 10 {
-			name := throw(d, strings.Fields("a b f c d e X Y ( ) [ . .. - = == \\+ not pp qq mod is X1 ;; one both \"ab\" ab 97"))
+			name := sample.Throw(&d, strings.Fields("a b f c d e X Y ( ) [ . .. - = == \\+ not pp qq mod is X1 ;; one both \"ab\" ab 97")...)
 			if !slices.Contains(namesOf(text), name) {
-				o.Add(1+d.next(1200), ops.Type(throw(d, kinds)), name)
+				o.Add(1+d.Next(1200), ops.Type(sample.Throw(&d, kinds...)), name)
 			}
 		}
 		if got := read(text, o); !got.equal(want) {
@@ -142,7 +143,7 @@ func TestAskedAgainTheSameIsTold(t *testing.T) {
 
 // spoil writes over all lists of an answer, their spare room too.
 func spoil(r *api.Read) {
-	each(r.Term.Args, func(p *api.Term) { *p = atom("spoilt") })
+	sample.Spoil(r.Term)
 	for i := range r.Names[:cap(r.Names)] {
 		r.Names[:cap(r.Names)][i].Name = "spoilt"
 	}
@@ -151,25 +152,15 @@ func spoil(r *api.Read) {
 	}
 }
 
-// each tells the places of all parts, and of spare room, innermost first.
-func each(l []api.Term, tell func(p *api.Term)) {
-	for i := range l {
-		each(l[i].Args, tell)
-	}
-	for i := range l[:cap(l)] {
-		tell(&l[:cap(l)][i])
-	}
-}
-
 // R4: no two lists of one answer share any room.
 func TestListsShareNothing(t *testing.T) {
-	d := &dice{43}
+	d := sample.Dice(43)
 	o := rich(t)
 	for range 3000 {
-		text := d.grown(1+d.next(6)) + " ."
+		text := grown(&d, 1+d.Next(6)) + " ."
 		got := read(text, o)
 		seen := map[*api.Term]bool{}
-		each(got.read.Term.Args, func(p *api.Term) {
+		sample.Places(got.read.Term.Args, func(p *api.Term) {
 			if seen[p] {
 				t.Fatalf("Read(%q): a part stands in two lists", text)
 			}

@@ -11,6 +11,7 @@ import (
 	"hornbeam/lexer"
 	"hornbeam/ops"
 	"hornbeam/parser"
+	"hornbeam/sample"
 	"hornbeam/term"
 )
 
@@ -322,28 +323,28 @@ func goThrough(text string, parts []string, more int, tell func(text string)) {
 func TestMixedTexts(t *testing.T) {
 	parts := strings.Fields("a b f( g( 'q' '-' 'pp' - - + * = = , , | ; :- --> \\+ -> ^ : is mod not not pp qq both one top dynamic ( ( ) ) ) [ [ ] ] [] {} { } 1 2.5 0 0.0 -1 X Y _ _Z \"ab\" `c` \"\" 0'a '' ! ")
 	rare := []string{". ", ". ", "\n", "% x\n", "/**/", "'", "'\\q'", "é", "\"", "0'", "1.0e999"}
-	d := &dice{17}
+	d := sample.Dice(17)
 	tables := []*ops.Table{ops.New(), rich(t)}
 	sound := 0
 	for range 150000 {
 		text := ""
-		for range d.next(14) {
-			if text += throw(d, parts); d.next(2) == 0 {
+		for range d.Next(14) {
+			if text += sample.Throw(&d, parts...); d.Next(2) == 0 {
 				text += " "
 			}
-			if d.next(60) == 0 {
-				text += throw(d, rare)
+			if d.Next(60) == 0 {
+				text += sample.Throw(&d, rare...)
 			}
 		}
-		if d.next(8) > 0 {
+		if d.Next(8) > 0 {
 			text += " ."
 		}
 		at := 0
-		if d.next(4) == 0 {
-			at = d.next(len(text) + 1)
+		if d.Next(4) == 0 {
+			at = d.Next(len(text) + 1)
 		}
-		o := throw(d, tables)
-		checkModel(t, text, at, o, d.next(5))
+		o := sample.Throw(&d, tables...)
+		checkModel(t, text, at, o, d.Next(5))
 		if read(text, o).word == "" {
 			sound++
 		}
@@ -354,13 +355,13 @@ func TestMixedTexts(t *testing.T) {
 }
 
 // grown is a text of an inner shape that is mostly a term.
-func (d *dice) grown(depth int) string {
+func grown(d *sample.Dice, depth int) string {
 	if depth == 0 {
-		return throw(d, strings.Fields("a b 1 -1 - 0 2.5 X Y _ [] {} '' \"ab\" `c` mod pp = not 'is'"))
+		return sample.Throw(d, strings.Fields("a b 1 -1 - 0 2.5 X Y _ [] {} '' \"ab\" `c` mod pp = not 'is'")...)
 	}
-	one := func() string { return d.grown(d.next(depth)) }
-	blank := throw(d, []string{"", " ", "", " ", "/**/", "\n"})
-	switch d.next(9) {
+	one := func() string { return grown(d, d.Next(depth)) }
+	blank := sample.Throw(d, []string{"", " ", "", " ", "/**/", "\n"}...)
+	switch d.Next(9) {
 	case 0:
 		return "f(" + one() + "," + blank + one() + ")"
 	case 1:
@@ -370,20 +371,20 @@ func (d *dice) grown(depth int) string {
 	case 3:
 		return "(" + one() + ")"
 	case 4:
-		return throw(d, strings.Fields("- \\+ not :- both - '-' ''")) + blank + one()
+		return sample.Throw(d, strings.Fields("- \\+ not :- both - '-' ''")...) + blank + one()
 	case 5:
-		return one() + blank + throw(d, strings.Fields("pp qq both 'pp'"))
+		return one() + blank + sample.Throw(d, strings.Fields("pp qq both 'pp'")...)
 	}
-	return one() + blank + throw(d, strings.Fields("- + , ; :- = is ^ ** * mod one top '' | 'is' : ->")) + blank + one()
+	return one() + blank + sample.Throw(d, strings.Fields("- + , ; :- = is ^ ** * mod one top '' | 'is' : ->")...) + blank + one()
 }
 
 // Texts that are mostly terms.
 func TestGrownTexts(t *testing.T) {
-	d := &dice{23}
+	d := sample.Dice(23)
 	o := rich(t)
 	sound := 0
 	for range 100000 {
-		text := d.grown(1+d.next(5)) + " . "
+		text := grown(&d, 1+d.Next(5)) + " . "
 		checkModel(t, text, 0, o, api.QCodes)
 		if read(text, o).word == "" {
 			sound++

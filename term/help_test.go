@@ -9,19 +9,16 @@ import (
 	"testing"
 
 	"hornbeam/api"
+	"hornbeam/sample"
+	"hornbeam/tree"
 )
 
-func atom(name string) api.Term { return api.Term{Kind: api.Atom, Name: name} }
-
-func num(digits string) api.Term { return api.Term{Kind: api.Integer, Num: digits} }
-
-func float(f float64) api.Term { return api.Term{Kind: api.Float, Bits: math.Float64bits(f)} }
-
-func v(n int) api.Term { return api.Term{Kind: api.Var, Var: n} }
-
-func f(name string, args ...api.Term) api.Term {
-	return api.Term{Kind: api.Compound, Name: name, Args: args}
-}
+// Short names for what makes terms and looks at them.
+var (
+	atom, num, v, f   = tree.Atom, tree.Digits, tree.Var, tree.Of
+	float, wide, deep = sample.Float, sample.Wide, sample.Deep
+	equal, equalLists = sample.Equal, sample.EqualLists
+)
 
 func pair(key, value api.Term) api.Term { return f("-", key, value) }
 
@@ -32,13 +29,6 @@ func list(end api.Term, l ...api.Term) api.Term {
 	}
 	return end
 }
-
-// equal looks at every field.
-func equal(a, b api.Term) bool {
-	return a.Kind == b.Kind && a.Name == b.Name && a.Num == b.Num && a.Bits == b.Bits && a.Var == b.Var && slices.EqualFunc(a.Args, b.Args, equal)
-}
-
-func equalLists(a, b []api.Term) bool { return slices.EqualFunc(a, b, equal) }
 
 func equalBinds(a, b []api.Bind) bool {
 	return slices.EqualFunc(a, b, func(x, y api.Bind) bool { return x.Var == y.Var && equal(x.Term, y.Term) })
@@ -96,35 +86,6 @@ func showBinds(l []api.Bind) string {
 
 // isNone tells whether a term is the zero one.
 func isNone(t api.Term) bool { return equal(t, api.Term{}) && t.Args == nil }
-
-// wide is a term of so many nodes, from 2 on, no node of more arguments than
-// may be.
-func wide(nodes int) api.Term {
-	nodes--
-	count := min(nodes, api.MaxArity)
-	t := f("w")
-	for i := range count {
-		share := nodes / count
-		if i < nodes%count {
-			share++
-		}
-		if share == 1 {
-			t.Args = append(t.Args, atom("x"))
-		} else {
-			t.Args = append(t.Args, wide(share))
-		}
-	}
-	return t
-}
-
-// deep is a term of so many nodes, each within another one.
-func deep(nodes int) api.Term {
-	t := atom("x")
-	for range nodes - 1 {
-		t = f("d", t)
-	}
-	return t
-}
 
 // endless is a tree that holds itself.
 func endless() api.Term {

@@ -4,6 +4,7 @@ import (
 	"testing"
 
 	"hornbeam/api"
+	"hornbeam/sample"
 	"hornbeam/term"
 )
 
@@ -104,51 +105,6 @@ func TestTermsThatMayNotBeAreToldFirst(t *testing.T) {
 	}
 }
 
-// spare is a term whose every list has spare room with marks in it, also the
-// one of an atom, which is empty.
-func spare(t api.Term) api.Term {
-	l := make([]api.Term, len(t.Args), len(t.Args)+3)
-	for i, part := range t.Args {
-		l[i] = spare(part)
-	}
-	for i := len(l); i < cap(l); i++ {
-		l[:cap(l)][i] = mark()
-	}
-	t.Args = l
-	return t
-}
-
-func mark() api.Term { return api.Term{Kind: 77, Name: "mark"} }
-
-// isSpare tells whether got is spare of t still.
-func isSpare(got, t api.Term) bool {
-	if got.Kind != t.Kind || got.Name != t.Name || got.Num != t.Num || got.Bits != t.Bits || got.Var != t.Var || len(got.Args) != len(t.Args) {
-		return false
-	}
-	for i, part := range t.Args {
-		if !isSpare(got.Args[i], part) {
-			return false
-		}
-	}
-	for _, m := range got.Args[len(got.Args):cap(got.Args)] {
-		if !equal(m, mark()) {
-			return false
-		}
-	}
-	return true
-}
-
-// places tells where a list's elements stand, spare room and what is within
-// them too.
-func places(l []api.Term, tell func(p *api.Term)) {
-	for i := range l[:cap(l)] {
-		tell(&l[:cap(l)][i])
-	}
-	for _, t := range l {
-		places(t.Args, tell)
-	}
-}
-
 // shared are terms that hold variables, pairs and lists, so that each call has
 // something to hand out.
 func shared() []api.Term {
@@ -170,19 +126,19 @@ func TestMemoryIsNotShared(t *testing.T) {
 func checkMemory(t *testing.T, c termCall, plain []api.Term) {
 	t.Helper()
 	given := f("all", plain...)
-	l := spare(given).Args
+	l := sample.Spare(given).Args
 	met := map[*api.Term]int{}
-	places(l, func(p *api.Term) { met[p] = 1 })
+	sample.Places(l, func(p *api.Term) { met[p] = 1 })
 	answered, _, _ := c.call(l)
 	answered = answered[:len(answered):len(answered)]
-	places(answered, func(p *api.Term) {
+	sample.Places(answered, func(p *api.Term) {
 		if met[p] != 0 {
 			t.Errorf("%s of%s: a list is shared", c.name, show(plain...))
 		}
 		met[p] = 2
 	})
-	places(answered, func(p *api.Term) { *p = api.Term{} })
-	if !isSpare(api.Term{Kind: api.Compound, Name: "all", Args: l}, given) {
+	sample.Places(answered, func(p *api.Term) { *p = api.Term{} })
+	if !sample.IsSpare(api.Term{Kind: api.Compound, Name: "all", Args: l}, given) {
 		t.Errorf("%s of%s: what was handed in is another one", c.name, show(plain...))
 	}
 }
