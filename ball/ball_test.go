@@ -1,0 +1,31 @@
+package ball_test
+
+import (
+	"testing"
+
+	"hornbeam/api"
+	"hornbeam/ball"
+	"hornbeam/sample"
+)
+
+func TestBalls(t *testing.T) {
+	for want, got := range map[string]*api.Ball{
+		`"instantiation_error"`:              ball.Instantiation(),
+		`"type_error"("evaluable","f"(_3))`:  ball.Type("evaluable", api.Term{Kind: api.Compound, Name: "f", Args: []api.Term{{Kind: api.Var, Var: 3}}}),
+		`"evaluation_error"("zero_divisor")`: ball.Evaluation("zero_divisor"),
+		`"resource_error"("bits")`:           ball.Resource("bits"),
+	} {
+		if shown := sample.Show(got.Term); shown != want {
+			t.Errorf("%s; want %s", shown, want)
+		}
+	}
+}
+
+// Each ball is a new one, which may be changed.
+func TestBallsAreNew(t *testing.T) {
+	first := ball.Resource("bits")
+	sample.Spoil(first.Term)
+	if got := sample.Show(ball.Resource("bits").Term); got != `"resource_error"("bits")` {
+		t.Errorf("%s", got)
+	}
+}
