@@ -6,14 +6,19 @@ import (
 	"hornbeam/api"
 	"hornbeam/ball"
 	"hornbeam/sample"
+	"hornbeam/tree"
 )
 
 func TestBalls(t *testing.T) {
 	for want, got := range map[string]*api.Ball{
-		`"instantiation_error"`:              ball.Instantiation(),
-		`"type_error"("evaluable","f"(_3))`:  ball.Type("evaluable", api.Term{Kind: api.Compound, Name: "f", Args: []api.Term{{Kind: api.Var, Var: 3}}}),
-		`"evaluation_error"("zero_divisor")`: ball.Evaluation("zero_divisor"),
-		`"resource_error"("bits")`:           ball.Resource("bits"),
+		`"instantiation_error"`:                        ball.Instantiation(),
+		`"type_error"("evaluable","f"(_3))`:            ball.Type("evaluable", api.Term{Kind: api.Compound, Name: "f", Args: []api.Term{{Kind: api.Var, Var: 3}}}),
+		`"domain_error"("order",7)`:                    ball.Domain("order", tree.Int(7)),
+		`"existence_error"("stream",_1)`:               ball.Existence("stream", tree.Var(1)),
+		`"permission_error"("open","source_sink","a")`: ball.Permission("open", "source_sink", tree.Atom("a")),
+		`"representation_error"("character")`:          ball.Representation("character"),
+		`"evaluation_error"("zero_divisor")`:           ball.Evaluation("zero_divisor"),
+		`"resource_error"("bits")`:                     ball.Resource("bits"),
 	} {
 		if shown := sample.Show(got.Term); shown != want {
 			t.Errorf("%s; want %s", shown, want)
