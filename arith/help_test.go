@@ -8,8 +8,6 @@ import (
 
 	"hornbeam/api"
 	"hornbeam/arith"
-	"hornbeam/ops"
-	"hornbeam/parser"
 	"hornbeam/sample"
 	"hornbeam/tree"
 )
@@ -17,18 +15,9 @@ import (
 // Short names for what makes terms and looks at them.
 var (
 	atom, num, v, f    = tree.Atom, tree.Digits, tree.Var, tree.Of
-	float              = sample.Float
+	float, read        = sample.Float, sample.Read
 	equal, show, short = sample.Equal, sample.Show, sample.Short
 )
-
-// read is the term that a text is.
-func read(text string) api.Term {
-	r, err := parser.Read(text+" .", 0, ops.New(), api.Flags{})
-	if err != nil {
-		panic(text)
-	}
-	return r.Term
-}
 
 func check(t *testing.T, x, want api.Term) {
 	t.Helper()

@@ -238,7 +238,7 @@ func TestMemory(t *testing.T) {
 // R4: so it is of terms.
 func TestMemoryOfTerms(t *testing.T) {
 	for _, text := range []string{"5", "..(1, 3)", `\/(\/(1, 3), ..(5, sup))`, "..(3, 1)", "a", "..(a, f(b, c))", `\/(1, f(_))`, "_"} {
-		x := read(text)
+		x := sample.Read(text)
 		in := sample.Spare(x)
 		d, err := fddom.Read(in)
 		want := saidRead(d, err)

@@ -9,21 +9,10 @@ import (
 
 	"hornbeam/api"
 	"hornbeam/fddom"
-	"hornbeam/ops"
-	"hornbeam/parser"
 	"hornbeam/sample"
 	"hornbeam/term"
 	"hornbeam/tree"
 )
-
-// read is the term that a text is.
-func read(text string) api.Term {
-	r, err := parser.Read(text+" .", 0, ops.New(), api.Flags{})
-	if err != nil {
-		panic(text)
-	}
-	return r.Term
-}
 
 // saidRead is what Read answers; of a ball what was thrown.
 func saidRead(d []api.Range, err error) string {
@@ -75,8 +64,8 @@ func TestTerm(t *testing.T) {
 		`1\/3\/5\/7`:            `\/(\/(\/(1,3),5),7)`,
 		`-18446744073709551616`: "-18446744073709551616",
 	} {
-		check(t, "Term", a, "none", "0", sample.Show(read(want)))
-		if got, e := fddom.Term(loose(set(a))); e != api.OK || !sample.Equal(got, read(want)) {
+		check(t, "Term", a, "none", "0", sample.Show(sample.Read(want)))
+		if got, e := fddom.Term(loose(set(a))); e != api.OK || !sample.Equal(got, sample.Read(want)) {
 			t.Errorf("Term of %s, loose: %s, %v", a, sample.Show(got), e)
 		}
 	}
@@ -128,7 +117,7 @@ func TestRead(t *testing.T) {
 		`\/(\/(7, 5), \/(1, ..(2,5)))`: `1..5\/7`,
 		`\/(1, \/(3, \/(5, 7)))`:       `1\/3\/5\/7`,
 	} {
-		checkRead(t, read(x), want)
+		checkRead(t, sample.Read(x), want)
 	}
 }
 
@@ -139,7 +128,7 @@ func TestReadOfNoSet(t *testing.T) {
 		"..(1)", "..(1, 2, 3)", "'..'", `\/(1)`, `\/(1, 2, 3)`, `'\\/'`, "f(1, 3)", "-(1, 3)", "/\\(1, 3)", "...(1, 3)", "[1]", "[1|3]", "{1}", "-(5)", "1 + 2",
 		`\/(_, 1)`, `\/(1, _)`, `\/(1, a)`, `\/(a, 1)`, `\/(inf, 1)`, `\/(1, sup)`, `\/(1, ..(1, a))`, `\/(\/(1, a), 3)`, `\/(1, \/(3, 1.5))`, `\/(..(3, 1), ..(a, b))`, `\/(f(_, X, X), 3)`,
 	} {
-		checkRead(t, read(text), noSet(read(text)))
+		checkRead(t, sample.Read(text), noSet(sample.Read(text)))
 	}
 	long := tree.Of("..", tree.Int(1), sample.Wide(api.MaxNodes-2))
 	checkRead(t, long, noSet(long))
@@ -187,7 +176,7 @@ func TestReadOfManyRanges(t *testing.T) {
 	for _, fromRight := range []bool{false, true} {
 		checkRead(t, union(most, fromRight), show(apart(api.MaxRanges, 0, 2)))
 		checkRead(t, union(single[:api.MaxRanges+1], fromRight), tooMany)
-		checkRead(t, union(append(slices.Clone(single), read("..(inf, sup)")), fromRight), "inf..sup")
+		checkRead(t, union(append(slices.Clone(single), sample.Read("..(inf, sup)")), fromRight), "inf..sup")
 		checkRead(t, union(append(slices.Clone(single), tree.Int(1)), fromRight), tooMany)
 		checkRead(t, union(append(slices.Clone(most), tree.Int(1), tree.Int(2*api.MaxRanges)), fromRight), `0..2\/`+show(apart(api.MaxRanges-1, 4, 2)))
 		bad := union(append(slices.Clone(single), tree.Atom("a")), fromRight)

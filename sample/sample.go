@@ -1,5 +1,5 @@
 // Package sample has what the tests of several packages need: terms that are
-// held against each other, shown, spoilt and thrown. The program itself does
+// read, held against each other, shown, spoilt and thrown. The program itself does
 // not use it.
 package sample
 
@@ -10,6 +10,9 @@ import (
 	"strings"
 
 	"hornbeam/api"
+	"hornbeam/ops"
+	"hornbeam/parser"
+	"hornbeam/term"
 	"hornbeam/tree"
 )
 
@@ -64,6 +67,23 @@ func ShowAll(l []api.Term) string {
 		parts = append(parts, Show(part))
 	}
 	return strings.Join(parts, ",")
+}
+
+// Read is the term that a text is. A variable that is written as _ and a number
+// has that number, all others have those that the parser gives them.
+func Read(text string) api.Term {
+	r, err := parser.Read(text+" .", 0, ops.New(), api.Flags{})
+	if err != nil {
+		panic(text)
+	}
+	var binds []api.Bind
+	for _, v := range r.Names {
+		if n, err := strconv.Atoi(strings.TrimPrefix(v.Name, "_")); err == nil {
+			binds = append(binds, api.Bind{Var: v.Var, Term: tree.Var(n)})
+		}
+	}
+	out, _ := term.Put(r.Term, binds)
+	return out
 }
 
 // List is a list that ends.

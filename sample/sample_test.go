@@ -34,6 +34,25 @@ func TestSizes(t *testing.T) {
 	}
 }
 
+// A text is read by the operators, with the numbers that its variables say.
+func TestRead(t *testing.T) {
+	for text, want := range map[string]string{
+		"f(X, _, Y, X)":      `"f"(_0,_1,_2,_0)`,
+		"g(_7, _0, _7)":      `"g"(_7,_0,_7)`,
+		"a --> [1.5], \\+ b": `"-->"("a",","("."(1.5f,"[]"),"\\+"("b")))`,
+	} {
+		if got := sample.Show(sample.Read(text)); got != want {
+			t.Errorf("%s is read as %s; want %s", text, got, want)
+		}
+	}
+	defer func() {
+		if recover() != "a b" {
+			t.Errorf("a text that is no term is read")
+		}
+	}()
+	sample.Read("a b")
+}
+
 // What is done to spare room, or to a part, is seen.
 func TestSpare(t *testing.T) {
 	plain := tree.Of("f", tree.Atom("a"), sample.List(tree.Int(1), sample.Float(2)))
