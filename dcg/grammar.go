@@ -11,12 +11,12 @@ import (
 
 // rule is the clause of a grammar rule.
 func rule(t api.Term, fresh func() api.Term) api.Term {
-	if !isOf(t, "-->", 2) {
+	if !tree.Is(t, "-->", 2) {
 		panic(ball.Type("dcg_rule", renewed(t)))
 	}
 	head, derived := t.Args[0], t.Args[1]
 	from, to := fresh(), fresh()
-	if !isOf(head, ",", 2) {
+	if !tree.Is(head, ",", 2) {
 		needCallable(head)
 		return tree.Of(":-", between(head, from, to), body(derived, from, to, fresh))
 	}
@@ -33,28 +33,25 @@ func body(t, from, to api.Term, fresh func() api.Term) api.Term {
 	switch {
 	case t.Kind == api.Var:
 		return tree.Of("phrase", t, from, to)
-	case isOf(t, ",", 2), isOf(t, "->", 2):
+	case tree.Is(t, ",", 2), tree.Is(t, "->", 2):
 		middle := fresh()
 		return tree.Of(t.Name, body(t.Args[0], from, middle, fresh), body(t.Args[1], middle, to, fresh))
-	case isOf(t, ";", 2), isOf(t, "|", 2):
+	case tree.Is(t, ";", 2), tree.Is(t, "|", 2):
 		return tree.Of(";", body(t.Args[0], from, to, fresh), body(t.Args[1], from, to, fresh))
-	case isOf(t, `\+`, 1):
+	case tree.Is(t, `\+`, 1):
 		return and(tree.Of(t.Name, body(t.Args[0], from, fresh(), fresh)), equal(from, to))
-	case isOf(t, tree.Braces, 0):
+	case tree.Is(t, tree.Braces, 0):
 		return and(tree.Atom("true"), equal(from, to))
-	case isOf(t, tree.Braces, 1):
+	case tree.Is(t, tree.Braces, 1):
 		return and(t.Args[0], equal(from, to))
-	case isOf(t, "!", 0):
+	case tree.Is(t, "!", 0):
 		return and(t, equal(from, to))
-	case isOf(t, tree.Empty, 0), isOf(t, ".", 2):
+	case tree.Is(t, tree.Empty, 0), tree.Is(t, ".", 2):
 		return equal(from, endingWith(t, to))
 	}
 	needCallable(t)
 	return between(t, from, to)
 }
-
-// isOf tells whether a term is of a name, with so many arguments.
-func isOf(t api.Term, name string, arity int) bool { return t.Name == name && len(t.Args) == arity }
 
 // needCallable gives up, if a term is no atom and no compound.
 func needCallable(t api.Term) {
@@ -78,7 +75,7 @@ func between(t, from, to api.Term) api.Term {
 // endingWith is a list with something else at its end.
 func endingWith(t, end api.Term) api.Term {
 	elements, rest, _ := term.Elements(t)
-	if !isOf(rest, tree.Empty, 0) {
+	if !tree.Is(rest, tree.Empty, 0) {
 		panic(ball.Type("list", renewed(t)))
 	}
 	return tree.List(elements, end)

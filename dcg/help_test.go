@@ -15,6 +15,13 @@ var (
 	atom, v, f  = tree.Atom, tree.Var, tree.Of
 	read, show  = sample.Read, sample.Show
 	short, list = sample.Short, sample.List
+	said, sized = sample.Said, sample.Wide
+)
+
+// What is said of errors.
+var (
+	wrongType = sample.WrongType
+	failure   = sample.Failure
 )
 
 // mostVar is the greatest number of a variable that a rule may have.
@@ -26,32 +33,6 @@ const (
 	manyArguments = `thrown "representation_error"("max_arity")`
 	manyNodes     = `thrown "resource_error"("nodes")`
 )
-
-func wrongType(needed string, x api.Term) string {
-	return "thrown " + show(f("type_error", atom(needed), x))
-}
-
-func failure(e api.Errno) string { return "error " + strconv.Itoa(int(e)) }
-
-// said is what a call answers: an error alone, if there is one and nothing
-// stands beside it.
-func said(text string, isNothing bool, err error) string {
-	var out string
-	switch x := err.(type) {
-	case nil:
-		return text
-	case *api.Ball:
-		out = "thrown " + show(x.Term)
-	case api.Errno:
-		out = failure(x)
-	default:
-		return "an error of another type"
-	}
-	if !isNothing {
-		out += " beside " + text
-	}
-	return out
-}
 
 func saidRule(clause api.Term, err error) string {
 	return said(show(clause), sample.IsNone(clause), err)
@@ -84,12 +65,4 @@ func wide(name string, arity int) api.Term {
 		t.Args = append(t.Args, atom("x"))
 	}
 	return t
-}
-
-// sized is a term of so many nodes that is an atom or a compound.
-func sized(nodes int) api.Term {
-	if nodes == 1 {
-		return atom("x")
-	}
-	return sample.Wide(nodes)
 }

@@ -33,20 +33,9 @@ func textOf(name string, parts ...string) string {
 	return strconv.Quote(name) + "(" + strings.Join(parts, ",") + ")"
 }
 
-// place is how the chapter's table names a term.
-func place(t api.Term) string {
-	switch t.Kind {
-	case api.Var:
-		return "a variable"
-	case api.Integer, api.Float:
-		return "a number"
-	}
-	return t.Name + "/" + strconv.Itoa(len(t.Args))
-}
-
 func (m *model) body(t api.Term, from, to string) string {
 	nothing := textOf("=", from, to)
-	switch place(t) {
+	switch sample.Place(t) {
 	case "a variable":
 		return textOf("phrase", show(t), from, to)
 	case "a number":
@@ -87,31 +76,31 @@ func (m *model) nonterminal(t api.Term, from, to string) string {
 }
 
 func isList(t api.Term) bool {
-	return place(t) == "[]/0" || place(t) == "./2" && isList(t.Args[1])
+	return sample.Place(t) == "[]/0" || sample.Place(t) == "./2" && isList(t.Args[1])
 }
 
 func (m *model) list(t api.Term, end string) string {
 	if !isList(t) {
 		return m.thrown(wrongType("list", t))
 	}
-	if place(t) == "[]/0" {
+	if sample.Place(t) == "[]/0" {
 		return end
 	}
 	return textOf(".", show(t.Args[0]), m.list(t.Args[1], end))
 }
 
 func (m *model) rule(t api.Term, greatest int) string {
-	if place(t) != "-->/2" {
+	if sample.Place(t) != "-->/2" {
 		return m.thrown(wrongType("dcg_rule", t))
 	}
 	m.next = greatest + 1
 	s0, s := m.fresh(), m.fresh()
 	h, b := t.Args[0], t.Args[1]
 	var p []api.Term
-	if place(h) == ",/2" {
+	if sample.Place(h) == ",/2" {
 		h, p = h.Args[0], h.Args[1:]
 	}
-	switch place(h) {
+	switch sample.Place(h) {
 	case "a variable":
 		return m.thrown(instantiation)
 	case "a number":

@@ -69,6 +69,50 @@ func ShowAll(l []api.Term) string {
 	return strings.Join(parts, ",")
 }
 
+// Said is what a call answers: an error alone, if there is one and nothing stands
+// beside it, else the text.
+func Said(text string, isNothing bool, err error) string {
+	var out string
+	switch x := err.(type) {
+	case nil:
+		return text
+	case *api.Ball:
+		out = Thrown(x.Term)
+	case api.Errno:
+		out = Failure(x)
+	default:
+		return "an error of another type"
+	}
+	if !isNothing {
+		out += " beside " + text
+	}
+	return out
+}
+
+// Thrown is what Said says of a ball.
+func Thrown(t api.Term) string { return "thrown " + Show(t) }
+
+// WrongType is what Said says of a ball that says that a term is not of the kind
+// that is needed.
+func WrongType(needed string, t api.Term) string {
+	return Thrown(tree.Of("type_error", tree.Atom(needed), t))
+}
+
+// Failure is what Said says of an error's number.
+func Failure(e api.Errno) string { return "error " + strconv.Itoa(int(e)) }
+
+// Place is what the tables of the chapters know a term by: its name and arity,
+// or its kind.
+func Place(t api.Term) string {
+	switch t.Kind {
+	case api.Var:
+		return "a variable"
+	case api.Integer, api.Float:
+		return "a number"
+	}
+	return t.Name + "/" + strconv.Itoa(len(t.Args))
+}
+
 // Read is the term that a text is. A variable that is written as _ and a number
 // has that number, all others have those that the parser gives them.
 func Read(text string) api.Term {
@@ -101,9 +145,12 @@ func Deep(nodes int) api.Term {
 	return t
 }
 
-// Wide is a term of so many nodes, from 2 on, no node of more arguments than
-// may be.
+// Wide is a term of so many nodes that is an atom or a compound, no node of more
+// arguments than may be.
 func Wide(nodes int) api.Term {
+	if nodes == 1 {
+		return tree.Atom("x")
+	}
 	nodes--
 	count := min(nodes, api.MaxArity)
 	t := tree.Of("w")
@@ -112,11 +159,7 @@ func Wide(nodes int) api.Term {
 		if i < nodes%count {
 			share++
 		}
-		if share == 1 {
-			t.Args = append(t.Args, tree.Atom("x"))
-		} else {
-			t.Args = append(t.Args, Wide(share))
-		}
+		t.Args = append(t.Args, Wide(share))
 	}
 	return t
 }

@@ -1,6 +1,7 @@
 package sample_test
 
 import (
+	"errors"
 	"testing"
 
 	"hornbeam/api"
@@ -25,11 +26,44 @@ func TestMistakes(t *testing.T) {
 
 // Terms of so many nodes have as many, and may be.
 func TestSizes(t *testing.T) {
-	for _, nodes := range []int{2, 3, 64, 65, 66, 1000, 4000} {
+	for _, nodes := range []int{1, 2, 3, 64, 65, 66, 1000, 4000} {
 		for _, x := range []api.Term{sample.Wide(nodes), sample.Deep(nodes)} {
 			if n := term.Nodes(x); n != nodes || term.Check(x) != api.OK {
 				t.Errorf("%d nodes, not %d", n, nodes)
 			}
+		}
+	}
+}
+
+// An error is told with what stands beside it.
+func TestSaid(t *testing.T) {
+	a := tree.Atom("a")
+	for _, row := range []struct {
+		err       error
+		isNothing bool
+		want      string
+	}{
+		{nil, true, "text"},
+		{nil, false, "text"},
+		{api.ErrArg, true, "error 1"},
+		{api.ErrArg, false, "error 1 beside text"},
+		{&api.Ball{Term: a}, true, `thrown "a"`},
+		{&api.Ball{Term: a}, false, `thrown "a" beside text`},
+		{errors.New("text"), true, "an error of another type"},
+	} {
+		if got := sample.Said("text", row.isNothing, row.err); got != row.want {
+			t.Errorf("%s; want %s", got, row.want)
+		}
+	}
+	if got := sample.WrongType("list", a); got != `thrown "type_error"("list","a")` {
+		t.Errorf("%s", got)
+	}
+}
+
+func TestPlace(t *testing.T) {
+	for text, want := range map[string]string{"_3": "a variable", "-3": "a number", "2.5": "a number", "a": "a/0", "f(a, b)": "f/2", "'a number'": "a number/0"} {
+		if got := sample.Place(sample.Read(text)); got != want {
+			t.Errorf("%s is %s; want %s", text, got, want)
 		}
 	}
 }

@@ -1,5 +1,6 @@
-// Package tree makes terms, for the layers that have some to make. It looks at
-// nothing: what is made of parts that may not be may not be either.
+// Package tree makes terms, for the layers that have some to make, and tells what
+// they are of. It checks nothing: what is made of parts that may not be may not be
+// either.
 package tree
 
 import (
@@ -32,6 +33,12 @@ func Float(bits uint64) api.Term { return api.Term{Kind: api.Float, Bits: bits} 
 // Of is a compound; it keeps the list of its arguments.
 func Of(name string, args ...api.Term) api.Term {
 	return api.Term{Kind: api.Compound, Name: name, Args: args}
+}
+
+// Is tells whether a term is of a name, with so many arguments: without any an
+// atom, else a compound.
+func Is(t api.Term, name string, arity int) bool {
+	return (t.Kind == api.Atom || t.Kind == api.Compound) && t.Name == name && len(t.Args) == arity
 }
 
 // List is a list of elements, and behind them its end.

@@ -41,3 +41,31 @@ func TestListTakesNoElements(t *testing.T) {
 		t.Errorf("the elements are %v", l)
 	}
 }
+
+// A term is of one name and one number of arguments; no other kind is of any.
+func TestIs(t *testing.T) {
+	a := tree.Atom("a")
+	for _, row := range []struct {
+		term  api.Term
+		name  string
+		arity int
+		is    bool
+	}{
+		{a, "a", 0, true},
+		{a, "b", 0, false},
+		{a, "a", 1, false},
+		{tree.Of("f", a, a), "f", 2, true},
+		{tree.Of("f", a, a), "f", 1, false},
+		{tree.Of("f", a, a), "f", 0, false},
+		{tree.Of("f", a, a), "a", 2, false},
+		{tree.Atom(""), "", 0, true},
+		{tree.Var(0), "", 0, false},
+		{tree.Int(0), "", 0, false},
+		{tree.Float(0), "", 0, false},
+		{api.Term{}, "", 0, false},
+	} {
+		if is := tree.Is(row.term, row.name, row.arity); is != row.is {
+			t.Errorf("%v is %q with %d arguments: %v", row.term, row.name, row.arity, is)
+		}
+	}
+}
